@@ -66,3 +66,27 @@ def check_held(case, told, points, point):
     else:
         check_line(case, told[1], points, point)
     return told[0]
+
+
+def is_shaded(thing, stone, ray):
+    """Whether a stone's middle is in the hull of the shadows of a thing's corners on the ground."""
+    a, b, c = ray
+    shadows = [(x + Fraction(a * z, c), y + Fraction(b * z, c)) for x, y, z in thing.corners()]
+    return is_amid(shadows, (2 * stone[0], 2 * stone[1]))
+
+
+def stones_in(yard):
+    return [(p, q) for q in range(yard.height) for p in range(yard.width)]
+
+
+def is_in_the_dark(yard, stone, turn):
+    return turn is None or any(is_shaded(thing, stone, turn) for thing in yard.things)
+
+
+def dark_stones(yard, turn):
+    """A list with, for each stone in the order of the numbers, whether it is dark."""
+    return [is_in_the_dark(yard, stone, turn) for stone in stones_in(yard)]
+
+
+def set_of(truths):
+    return sum(2 ** number for number, truth in enumerate(truths) if truth)
