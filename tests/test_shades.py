@@ -44,7 +44,7 @@ class Kinds(Case):
         self.just_these(post, (2, 2, 3), [(1, 2), (2, 3), (1, 3), (2, 2)])
 
     def test_post_on_the_very_edge_and_one_step_beyond(self):
-        # Its shadow reaches from 2p - 1 to 2p + 1 + h steps by this ray: the middle 2 steps on is the edge where h is 1.
+        # By this ray its shadow reaches to 1 + h steps: the middle of the next stone is the edge where h is 1.
         for h in range(1, 10):
             wanted = [(p, 0) for p in range(8) if 2 * p <= 1 + h]
             self.just_these(thing_of("post", [0, 0, h]), (1, 0, 1), wanted)
