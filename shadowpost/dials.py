@@ -1,7 +1,12 @@
 """Dials: the stone on which the end of a pointer's shadow lies tells the turn."""
 
 from shadowpost.rays import cast, number_of
+from shadowpost.things import is_height, is_place
 from shadowpost.yards import has_stone, turns_of
+
+
+def is_pointer(pointer):
+    return is_place(pointer[0]) and is_place(pointer[1]) and is_height(pointer[2])
 
 
 def end_of(pointer, ray):

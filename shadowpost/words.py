@@ -1,4 +1,4 @@
-"""What writes a number, and what writes a name."""
+"""What writes a number, what writes a name, and the numbers that words write."""
 
 FIGURES = "0123456789"
 LETTERS = "abcdefghijklmnopqrstuvwxyz"
@@ -20,3 +20,9 @@ def is_number(word):
 
 def is_name(word):
     return is_made_of(word, LETTERS, MOST_LETTERS)
+
+
+def numbers_of(words):
+    if all([is_number(word) for word in words]):
+        return [int(word) for word in words]
+    return None

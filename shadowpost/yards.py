@@ -5,6 +5,12 @@ A day is a tuple (name, times, turns).
 
 from shadowpost.errors import NoStone, NoTurn
 
+MOST_SIDE = 20
+MOST_THINGS = 40
+MOST_DAYS = 12
+MOST_TURNS = 24
+MOST_TIMES = 1000000000
+
 
 class Yard:
     def __init__(self, width, height, things, days):
